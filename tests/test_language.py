@@ -1,0 +1,123 @@
+"""The package keeps to the small part of Python that is asked of it, as far as a look at its trees can tell."""
+
+import ast
+import builtins
+import pathlib
+import re
+import unittest
+
+FOLDER = pathlib.Path(__file__).resolve().parent.parent / "cordbook"
+
+STATEMENTS = (ast.FunctionDef, ast.ClassDef, ast.Return, ast.Assign, ast.AugAssign, ast.If, ast.While, ast.For,
+              ast.Break, ast.Continue, ast.Pass, ast.Raise, ast.Try, ast.Expr, ast.ImportFrom)
+EXPRESSIONS = (ast.BoolOp, ast.BinOp, ast.UnaryOp, ast.Lambda, ast.IfExp, ast.Dict, ast.Set, ast.ListComp, ast.Compare,
+               ast.Call, ast.Constant, ast.Attribute, ast.Subscript, ast.Name, ast.List, ast.Tuple, ast.Slice,
+               ast.JoinedStr, ast.FormattedValue)
+OWN_NAMES = set("""len range enumerate zip min max sum abs sorted reversed int str bool list tuple dict set frozenset
+    isinstance ord repr any all divmod Exception ValueError TypeError KeyError IndexError LookupError
+    ZeroDivisionError ArithmeticError OverflowError RuntimeError NotImplementedError StopIteration""".split())
+METHODS = set("""append clear copy count endswith extend find get index insert isalnum isalpha isdigit islower isspace
+    isupper items join keys ljust lower lstrip partition pop remove replace reverse rfind rjust rpartition rsplit
+    rstrip setdefault split splitlines startswith strip update upper values zfill bit_length""".split())
+BANNED_WORDS = re.compile(r"""\b(type|typing|typing_extensions|enum|Enum|IntEnum|StrEnum|Flag|IntFlag|Generic|Protocol|
+    ABC|ABCMeta|namedtuple|NamedTuple|TypedDict|TYPE_CHECKING|abstractmethod)\b|dataclass|overload|contextmanager""",
+                          re.VERBOSE)
+
+
+def sources():
+    return {path.name: path.read_text(encoding="utf-8") for path in sorted(FOLDER.glob("*.py"))}
+
+
+def bound_names(tree):
+    found = []
+    for node in ast.walk(tree):
+        if isinstance(node, (ast.FunctionDef, ast.ClassDef)):
+            found.append(node.name)
+        elif isinstance(node, ast.arg):
+            found.append(node.arg)
+        elif isinstance(node, ast.Name) and isinstance(node.ctx, ast.Store):
+            found.append(node.id)
+        elif isinstance(node, ast.alias):
+            found.append(node.asname or node.name)
+    return found
+
+
+def each_node():
+    for name, text in sources().items():
+        for node in ast.walk(ast.parse(text)):
+            yield f"{name} {getattr(node, 'lineno', 0)}", node
+
+
+class LanguageTest(unittest.TestCase):
+    def test_nothing_else_lies_in_the_package(self):
+        for path in FOLDER.iterdir():
+            if path.name != "__pycache__":
+                self.assertRegex(path.name, r"^[a-z0-9_]+\.py$")
+        self.assertIn("__init__.py", sources())
+
+    def test_sizes_signs_and_words(self):
+        for name, text in sources().items():
+            with self.subTest(name):
+                self.assertLessEqual(len(text.splitlines()), 400)
+                self.assertTrue(all(len(row) <= 120 for row in text.splitlines()))
+                self.assertTrue(all(sign == "\n" or " " <= sign <= "~" for sign in text))
+                self.assertIsNone(BANNED_WORDS.search(text))
+
+    def test_statements_and_expressions(self):
+        for where, node in each_node():
+            with self.subTest(where):
+                if isinstance(node, ast.stmt):
+                    self.assertIsInstance(node, STATEMENTS)
+                if isinstance(node, ast.expr):
+                    self.assertIsInstance(node, EXPRESSIONS)
+                self.assertNotIsInstance(node, (ast.Div, ast.MatMult))
+                if isinstance(node, ast.Constant):
+                    self.assertNotIsInstance(node.value, (float, complex, bytes))
+                if isinstance(node, ast.Assign):
+                    self.assertEqual(len(node.targets), 1)
+                    self.assertNotIsInstance(node.targets[0], (ast.Tuple, ast.List))
+                if isinstance(node, (ast.For, ast.While)):
+                    self.assertEqual(node.orelse, [])
+                if isinstance(node, ast.Try):
+                    self.assertEqual(node.finalbody, [])
+                if isinstance(node, ast.ListComp):
+                    self.assertEqual(len(node.generators), 1)
+                    self.assertLessEqual(len(node.generators[0].ifs), 1)
+                if isinstance(node, ast.BinOp) and isinstance(node.op, ast.Pow):
+                    self.assertIsInstance(node.right, ast.Constant)
+                if isinstance(node, ast.Compare) and any(isinstance(op, (ast.Is, ast.IsNot)) for op in node.ops):
+                    self.assertIn(ast.unparse(node.comparators[0]), ("None", "True", "False"))
+
+    def test_functions(self):
+        for where, node in each_node():
+            with self.subTest(where):
+                if isinstance(node, ast.FunctionDef):
+                    self.assertLessEqual(node.end_lineno - node.lineno + 1, 40)
+                    self.assertEqual(node.decorator_list, [])
+                    self.assertIsNone(node.args.vararg)
+                    self.assertIsNone(node.args.kwarg)
+                    self.assertEqual(node.args.kwonlyargs + node.args.posonlyargs, [])
+
+    def test_imports(self):
+        for where, node in each_node():
+            with self.subTest(where):
+                if isinstance(node, ast.ImportFrom):
+                    self.assertEqual(node.level, 0)
+                    self.assertTrue(node.module.startswith("cordbook."))
+
+    def test_names(self):
+        for name, text in sources().items():
+            tree = ast.parse(text)
+            bound = bound_names(tree)
+            with self.subTest(name):
+                for word in bound:
+                    self.assertRegex(word, r"^[A-Za-z][A-Za-z0-9_]*$")
+                    self.assertFalse(hasattr(builtins, word), word)
+                loads = [node.id for node in ast.walk(tree) if isinstance(node, ast.Name)]
+                self.assertLessEqual(set(loads) - set(bound), OWN_NAMES)
+                called = [node.attr for node in ast.walk(tree) if isinstance(node, ast.Attribute)]
+                self.assertLessEqual(set(called), METHODS)
+
+
+if __name__ == "__main__":
+    unittest.main()
