@@ -15,6 +15,12 @@ def chain(n, rings=0):
     return (tuple((2 * k, 2 * k, 2 * k + 1, 2 * k + 1) for k in range(n)), rings)
 
 
+def twisted(n):
+    """Two cords side by side, laid round each other n times and closed; 3 times are a trefoil."""
+    rounds = [(2 * k, 2 * k + 1, (2 * k + 3) % (2 * n), (2 * k + 2) % (2 * n)) for k in range(n)]
+    return model.told(rounds, 0)
+
+
 def small_sheets():
     """All sheets of up to two crossings."""
     return [sheet for n in range(3) for rings in (0, 1, 3) for sheet in model.all_sheets(n, rings)]

@@ -1,15 +1,25 @@
-"""Point 16: the straight total, the strands and the colourings, as tests.model counts them, stay by every move."""
+"""Point 16: the straight total, the strands and the colourings, as the program tells them, stay by every move."""
 
 import itertools
 import random
 import unittest
 
+from cordbook.colours import colourings
 from cordbook.errors import NoMove
 from cordbook.moves import curled, laid_over, slid, taken_apart, uncurled
 from cordbook.strands import strands
+from cordbook.sums import straight
 from tests import model
 from tests.samples import FIGURE_EIGHT, HOPF, TREFOIL, small_sheets
 from tests.test_slides import CHOICES, lying
+
+
+PRIMES = (2, 3, 5, 7, 11, 13)
+
+
+def kept(sheet):
+    """All that the moves leave as it was."""
+    return (straight(sheet), strands(sheet), [colourings(sheet, prime) for prime in PRIMES])
 
 
 def tried(move, *told):
@@ -22,6 +32,16 @@ def tried(move, *told):
 
 def larger_sheets():
     return [TREFOIL, FIGURE_EIGHT] + [sheet for n in (3, 4, 5) for sheet in model.some_sheets(n, 4, 50 + n)]
+
+
+def crowded_sheets():
+    """Sheets of up to ten crossings, each with a curl or a pair that comes apart."""
+    found = []
+    for n in (5, 8):
+        for sheet in model.some_sheets(n, 6, 90 + n):
+            found += [laid_over(sheet, 1, n, way) for way in range(4)]
+            found += [curled(sheet, n, way) for way in range(4)]
+    return found
 
 
 def hung_together(rows, more, seed):
@@ -66,11 +86,14 @@ class ModelTest(unittest.TestCase):
 
 class KeptTest(unittest.TestCase):
     def check(self, before, sheets):
-        kept = model.kept(before)
+        expected = kept(before)
         for sheet in sheets:
-            self.assertEqual(model.kept(sheet), kept, (before, sheet))
-            self.assertEqual(strands(sheet), strands(before), (before, sheet))
+            self.assertEqual(kept(sheet), expected, (before, sheet))
         return len(sheets)
+
+    def test_the_tests_count_the_same(self):
+        for sheet in small_sheets() + larger_sheets():
+            self.assertEqual(kept(sheet), model.kept(sheet))
 
     def test_curled(self):
         for sheet in small_sheets() + larger_sheets():
@@ -81,14 +104,14 @@ class KeptTest(unittest.TestCase):
         for sheet in small_sheets() + larger_sheets():
             lines = range(2 * len(sheet[0]))
             if len(sheet[0]) > 3:
-                lines = lines[::3]
+                lines = lines[::2]
             self.check(sheet, [laid_over(sheet, upper, lower, way) for upper in lines for lower in lines
                                if upper != lower for way in range(4)])
 
     def test_uncurled_and_taken_apart(self):
         curls = 0
         apart = 0
-        for sheet in small_sheets() + list(model.all_sheets(3))[::9]:
+        for sheet in small_sheets() + list(model.all_sheets(3))[::4] + crowded_sheets():
             numbers = range(len(sheet[0]))
             curls += self.check(sheet, [new for at in numbers for new in tried(uncurled, sheet, at)])
             apart += self.check(sheet, [new for one in numbers for other in numbers
@@ -109,6 +132,20 @@ class KeptTest(unittest.TestCase):
             for more in (1, 2, 3):
                 sheet = hung_together(lying(*choice), more, more)
                 self.check(sheet, [slid(sheet, 0, 1, 2)])
+
+    def test_ten_crossings(self):
+        for sheet in model.some_sheets(9, 3, 19):
+            self.check(sheet, [curled(sheet, line, way) for line in (0, 7, 17) for way in range(4)])
+        for sheet in model.some_sheets(8, 3, 18):
+            self.check(sheet, [laid_over(sheet, upper, 15 - upper, way) for upper in (0, 9) for way in range(4)])
+        for choice in CHOICES:
+            sheet = hung_together(lying(*choice), 7, 5)
+            self.check(sheet, [slid(sheet, 0, 1, 2)])
+
+    def test_a_hundred_rings(self):
+        sheet = (TREFOIL[0], 100)
+        self.check(sheet, [curled(sheet, line, way) for line in (2, 6) for way in range(4)])
+        self.check(((), 100), [curled(((), 100), 0, way) for way in range(4)])
 
 
 if __name__ == "__main__":

@@ -23,6 +23,13 @@ BANNED_WORDS = re.compile(r"""\b(type|typing|typing_extensions|enum|Enum|IntEnum
     ABC|ABCMeta|namedtuple|NamedTuple|TypedDict|TYPE_CHECKING|abstractmethod)\b|dataclass|overload|contextmanager""",
                           re.VERBOSE)
 
+WALKED = ("zip", "enumerate", "reversed", "range", "items", "keys", "values")
+WALKERS = ("list", "tuple", "dict", "sorted", "sum", "any", "all", "enumerate", "zip", "min", "max")
+
+
+def called_name(call):
+    return call.func.id if isinstance(call.func, ast.Name) else call.func.attr
+
 
 def sources():
     return {path.name: path.read_text(encoding="utf-8") for path in sorted(FOLDER.glob("*.py"))}
@@ -117,6 +124,44 @@ class LanguageTest(unittest.TestCase):
                 self.assertLessEqual(set(loads) - set(bound), OWN_NAMES)
                 called = [node.attr for node in ast.walk(tree) if isinstance(node, ast.Attribute)]
                 self.assertLessEqual(set(called), METHODS)
+
+    def test_no_local_is_called_like_an_import_or_a_class(self):
+        for name, text in sources().items():
+            tree = ast.parse(text)
+            outer = [alias.name for node in tree.body if isinstance(node, ast.ImportFrom) for alias in node.names]
+            outer += [node.name for node in tree.body if isinstance(node, ast.ClassDef)]
+            inner = [word for node in tree.body if isinstance(node, ast.FunctionDef) for word in bound_names(node)]
+            with self.subTest(name):
+                self.assertEqual(set(outer) & set(inner), set())
+
+    def test_ranges_and_their_like_are_walked_on_the_spot(self):
+        for name, text in sources().items():
+            tree = ast.parse(text)
+            spots = [id(node.iter) for node in ast.walk(tree) if isinstance(node, (ast.For, ast.comprehension))]
+            for node in ast.walk(tree):
+                if isinstance(node, ast.Call) and node.args and called_name(node) in WALKERS:
+                    spots.append(id(node.args[0]))
+            for node in ast.walk(tree):
+                if isinstance(node, ast.Call) and called_name(node) in WALKED:
+                    with self.subTest(name=name, line=node.lineno):
+                        self.assertIn(id(node), spots)
+
+    def test_texts(self):
+        for where, node in each_node():
+            if isinstance(node, ast.Constant) and isinstance(node.value, str):
+                with self.subTest(where):
+                    self.assertNotIn("%", node.value)
+
+    def test_no_two_files_draw_from_one_another(self):
+        drawn = {}
+        for name, text in sources().items():
+            drawn[name[:-3]] = {node.module.split(".")[1] for node in ast.parse(text).body
+                                if isinstance(node, ast.ImportFrom)}
+        while drawn:
+            ready = [name for name in drawn if not drawn[name] & set(drawn)]
+            self.assertTrue(ready, drawn)
+            for name in ready:
+                del drawn[name]
 
 
 if __name__ == "__main__":
